@@ -1,0 +1,177 @@
+package pile
+
+import (
+	"errors"
+	"math"
+	"slices"
+	"testing"
+
+	"sexton/api"
+	"sexton/board"
+	"sexton/plot"
+	"sexton/woe"
+)
+
+// heap answers one of so many slots, with the whole board.
+func heap(t *testing.T, slots int) *plot.Plot {
+	t.Helper()
+	p, err := plot.New(slots, board.Cells())
+	if err != nil {
+		t.Fatal(err)
+	}
+	return p
+}
+
+func do(t *testing.T, p *plot.Plot, a api.Access) api.Reply {
+	t.Helper()
+	x, err := p.Do(a)
+	if err != nil || p.Fault() != nil {
+		t.Fatalf("%+v: %v, %v", a, err, p.Fault())
+	}
+	return x
+}
+
+func put(t *testing.T, p *plot.Plot, at api.Addr, w api.Word) {
+	t.Helper()
+	do(t, p, api.Access{Kind: api.Store, At: at, New: w})
+}
+
+// pileUp lays slots with these values on each other by hand, the last one on top; it answers them.
+func pileUp(t *testing.T, p *plot.Plot, vals ...int) []api.Word {
+	t.Helper()
+	var refs []api.Word
+	below := api.Word{}
+	for _, val := range vals {
+		w := do(t, p, api.Access{Kind: api.New}).Word
+		put(t, p, cell(w, 1), api.Word{Num: val})
+		put(t, p, cell(w, 2), below)
+		refs, below = append(refs, w), w
+	}
+	put(t, p, top, below)
+	return refs
+}
+
+// checkItems looks at what a stack has, and whether that changes nothing.
+func checkItems(t *testing.T, p *plot.Plot, vals []int, refs []api.Word) {
+	t.Helper()
+	steps, live, made := p.Steps(), p.Live(), p.Made()
+	for range 2 {
+		gotVals, gotRefs, err := Items(p)
+		if !slices.Equal(gotVals, vals) || !slices.Equal(gotRefs, refs) || err != nil {
+			t.Fatalf("%v, %v, %v; not %v, %v", gotVals, gotRefs, err, vals, refs)
+		}
+		// What is told is new memory, so nothing hangs on it.
+		clear(gotVals[:cap(gotVals)])
+		clear(gotRefs[:cap(gotRefs)])
+	}
+	if p.Steps() != steps || p.Live() != live || p.Made() != made || p.Fault() != nil {
+		t.Errorf("%d steps, %d live, %d made, %v", p.Steps(), p.Live(), p.Made(), p.Fault())
+	}
+}
+
+func checkLeft(t *testing.T, p *plot.Plot) {
+	t.Helper()
+	steps := p.Steps()
+	vals, refs, err := Items(p)
+	if len(vals) != 0 || len(refs) != 0 || !errors.Is(err, api.ErrLeft) || woe.Code(err) != 9 {
+		t.Errorf("%v, %v, %v", vals, refs, err)
+	}
+	if p.Steps() != steps || p.Fault() != nil {
+		t.Errorf("%d steps, %v", p.Steps(), p.Fault())
+	}
+}
+
+// P7.2
+func TestItems(t *testing.T) {
+	p := heap(t, 4)
+	checkItems(t, p, nil, nil)
+	refs := pileUp(t, p, 5, -3, 1<<30)
+	checkItems(t, p, []int{1 << 30, -3, 5}, []api.Word{refs[2], refs[1], refs[0]})
+	// Tags, marks and numbers of words that lead to slots are nothing to it; nor is what else there is.
+	put(t, p, top, api.Word{Slot: 2, Gen: 1, Tag: 9, Num: 4, Mark: true})
+	put(t, p, cell(refs[1], 2), api.Word{Slot: 1, Gen: 1, Tag: 3, Num: 8, Mark: true})
+	put(t, p, cell(refs[1], 1), api.Word{Slot: 3, Gen: 1, Tag: 2, Num: 6, Mark: true})
+	put(t, p, api.Addr{Field: 1}, refs[2])
+	checkItems(t, p, []int{6, 5}, []api.Word{refs[1], refs[0]})
+	// A word without a slot ends it.
+	put(t, p, cell(refs[1], 2), api.Word{Gen: 4, Tag: 9, Num: 3, Mark: true})
+	checkItems(t, p, []int{6}, []api.Word{refs[1]})
+	put(t, p, top, api.Word{Gen: 4, Tag: 9, Num: 3, Mark: true})
+	checkItems(t, p, nil, nil)
+}
+
+// P7.2: a slot that was freed and given again is looked at in its generation.
+func TestItemsOfAnotherGeneration(t *testing.T) {
+	p := heap(t, 1)
+	for gen := 1; gen < 4; gen++ {
+		refs := pileUp(t, p, 10*gen)
+		checkItems(t, p, []int{10 * gen}, []api.Word{{Slot: 1, Gen: gen}})
+		for _, wrong := range []int{gen - 1, gen + 1, -1, math.MinInt, math.MaxInt} {
+			put(t, p, top, api.Word{Slot: 1, Gen: wrong})
+			checkLeft(t, p)
+		}
+		do(t, p, api.Access{Kind: api.Free, Old: refs[0]})
+		put(t, p, top, refs[0])
+		checkLeft(t, p)
+	}
+}
+
+// P7.2: of a nil plot, and of one that has no root.
+func TestItemsOfNoStack(t *testing.T) {
+	if vals, refs, err := Items(nil); len(vals) != 0 || len(refs) != 0 || !errors.Is(err, api.ErrNil) || woe.Code(err) != 2 {
+		t.Errorf("%v, %v, %v", vals, refs, err)
+	}
+	p, err := plot.New(2, 0)
+	if err != nil {
+		t.Fatal(err)
+	}
+	checkLeft(t, p)
+	if p, err = plot.New(0, 1); err != nil {
+		t.Fatal(err)
+	}
+	checkItems(t, p, nil, nil)
+}
+
+// P7.2: one that can't be looked at, wherever it is; what is ahead of it isn't told.
+func TestItemsOfWhatIsNotThere(t *testing.T) {
+	for _, slot := range []int{math.MinInt, -1, 4, 5, 6, 1024, 1025, math.MaxInt} {
+		for place := range 4 {
+			p := heap(t, 5)
+			refs := pileUp(t, p, 1, 2, 3)
+			at := top
+			if place > 0 {
+				at = cell(refs[3-place], 2)
+			}
+			for _, gen := range []int{0, 1} {
+				put(t, p, at, api.Word{Slot: slot, Gen: gen})
+				checkLeft(t, p)
+			}
+		}
+	}
+	p := heap(t, 5)
+	refs := pileUp(t, p, 1, 2, 3)
+	for _, w := range []api.Word{refs[0], refs[1], refs[2]} {
+		do(t, p, api.Access{Kind: api.Free, Old: w})
+		checkLeft(t, p)
+	}
+}
+
+// P7.2: as many slots as there can be, and those that never end.
+func TestItemsOfMany(t *testing.T) {
+	for _, many := range []int{1, 2, 1023, 1024} {
+		p := heap(t, many)
+		vals := make([]int, many)
+		for i := range vals {
+			vals[i] = i
+		}
+		refs := pileUp(t, p, vals...)
+		slices.Reverse(vals)
+		down := slices.Clone(refs)
+		slices.Reverse(down)
+		checkItems(t, p, vals, down)
+		for _, back := range []int{0, many / 2, many - 1} {
+			put(t, p, cell(refs[0], 2), refs[back])
+			checkLeft(t, p)
+		}
+	}
+}
